@@ -1,0 +1,1 @@
+"""Backlinks: log entries with links back that never cross."""

@@ -1,0 +1,181 @@
+"""What the tests share: plain searches, sample logs, wrong values, and a test case with exact checks."""
+
+import copy
+import itertools
+import random
+import signal
+import unittest
+
+from backlinks.errors import BacklinkError, InvalidEntry, InvalidLog
+
+SECONDS = 30
+
+GREAT = 10 ** 99
+NESTED = [[[[[[[[[[[[[[[[[[[0]]]]]]]]]]]]]]]]]]]
+
+NOT_INTEGERS = [
+    None, True, False, "", "0", "1", "a", b"", b"\x00", b"1", (), (0,), (0, 0), [], [0], [1], [[1]], [0, 0, 0],
+    {}, {0: 0}, {1: True}, {"0": [0]}, NESTED,
+]
+NOT_LISTS = [
+    None, True, False, 0, 1, 2, -1, GREAT, -GREAT, "", "0", "0 0", "-", b"", b"\x00", b"\x00\x00", (), (0,), (0, 0),
+    (0, 0, 0, 2), ([0],), {}, {0: 0}, {0: 0, 1: 0}, {"0": [0]},
+]
+# Lists that do not have the form of a log, crossing links aside.
+NOT_FORMS = NOT_LISTS + [
+    [], [1], [-1], [GREAT], [None], [False], [True], ["0"], [b"\x00"], [()], [[]], [[0]], [{}], NESTED,
+    [0, 1], [0, -1], [0, False], [0, True], [0, None], [0, "0"], [0, [0]], [0, (0,)], [0, {0: 0}], [0, GREAT],
+    [0, -GREAT], [False, 0], [1, 0], [0, 0, 2], [0, 0, True], [0, 0, 0, False], [0, 0, True, 2], [0, 0, 0, 3],
+    [0, 0, 0, -1], [0, 0, 0, 0, "2"], [0, 0, 1, [2]], [[0, 0, 0, 2]], [0] * 151, [0] + list(range(150)),
+    [0] * 152, [0] * 400, [0] + list(range(399)), [0] * 150 + [150], [0] * 149 + [149], [0] * 149 + [True],
+    [0] * 149 + [147, 0],
+]
+CROSSED = [
+    [0, 0, 0, 1], [0, 0, 1, 0, 2], [0, 0, 1, 2, 2, 3], [0, 0, 0, 2, 3, 2, 1], [0, 0, 0, 0, 2, 1], [0] * 149 + [147],
+]
+NOT_LOGS = NOT_FORMS + CROSSED
+# What is not a chain of EXAMPLE.
+NOT_CHAINS = NOT_LISTS + [
+    [], [0, 0], [1, 1], [0, 1], [5, 6], [4, 5, 4], [2, 0, 0], [5, 2, 0, 0], [5, 2, 0, -1], [0, -1], [6, 4], [5, 3],
+    [3, 1], [6, 5, 4, 3, 2, 1, 0, 0], [7], [7, 6], [7, 0], [-1], [-1, 0], [6, -1], [GREAT], [-GREAT], [6, GREAT],
+    [True], [False], [1, False], [True, 0], [2, True], [6, False], [None], ["5"], ["5", "2"], [5, "2"], [b"5"],
+    [5, None], [(5, 2)], [[5, 2]], [5, [2]], [{}], [5, 2, 1, 0, 1], (5, 2), (5,), {5: 2}, "52", "5>2", b"\x05\x02",
+    [5] * 400,
+]
+
+EXAMPLE = [0, 0, 0, 2, 3, 2, 0]
+ONE = [0]
+FLAT = [0] * 150
+STEPS = [0] + list(range(149))
+# Each even entry links two back: 2 ** 74 chains lead from entry 148 to entry 0.
+PAIRS = [0, 0] + [entry - 2 if entry % 2 == 0 else entry - 1 for entry in range(2, 150)]
+
+
+def mixed_log(size, seed):
+    """Returns a log whose links are spread without a plan, the same one for the same seed."""
+    chance = random.Random(seed)
+    links, targets = [0], [0]
+    while len(links) < size:
+        link = chance.choice(targets[-4:])
+        targets = [target for target in targets if target <= link] + [len(links)]
+        links.append(link)
+    return links
+
+
+MIXED = [mixed_log(150, seed) for seed in (1, 2, 3)]
+LONG = [FLAT, STEPS, PAIRS] + MIXED
+
+
+def all_forms(size):
+    """Returns all lists with the form of a log, whether links cross or not."""
+    choices = [range(max(1, entry)) for entry in range(size)]
+    return [list(links) for links in itertools.product(*choices)]
+
+
+def all_crossings(links):
+    """Returns all tuples of two entries that cross, in ascending order."""
+    pairs = itertools.combinations(range(1, len(links)), 2)
+    return sorted((i, j) for i, j in pairs if links[i] < links[j] < i)
+
+
+def all_logs(size):
+    """Returns all logs of a size."""
+    return [links for links in all_forms(size) if not all_crossings(links)]
+
+
+def all_chains(links, start, end):
+    """Returns all chains from start to end in ascending order."""
+    if start == end:
+        return [[start]]
+    found = []
+    for below in {start - 1, links[start]}:
+        if below >= end:
+            found += [[start] + rest for rest in all_chains(links, below, end)]
+    return sorted(found)
+
+
+def small_logs():
+    """Returns the logs that the tests compare with plain searches."""
+    return [links for size in range(1, 8) for links in all_logs(size)] + [mixed_log(13, seed) for seed in range(4)]
+
+
+def small_spans():
+    """Yields each small log with each start and end."""
+    for links in small_logs():
+        for start in range(len(links)):
+            for end in range(start + 1):
+                yield links, start, end
+
+
+def stop_waiting(number, frame):
+    """Fails a test that goes on for ever, as where a program lists what must not be listed."""
+    raise AssertionError(f"not done within {SECONDS} seconds")
+
+
+class ExactCase(unittest.TestCase):
+    """A test case that tells True from 1, looks at the arguments after each call, and ends in time."""
+
+    def setUp(self):
+        before = signal.signal(signal.SIGALRM, stop_waiting)
+        self.addCleanup(signal.signal, signal.SIGALRM, before)
+        self.addCleanup(signal.alarm, 0)
+        signal.alarm(SECONDS)
+
+    def call(self, function, *args):
+        """Returns the result of a call, and fails if the call changed an argument."""
+        before = repr(args)
+        try:
+            return function(*args)
+        finally:
+            self.assertEqual(repr(args), before, "the call changed an argument")
+
+    def same(self, result, wanted):
+        """Fails unless both have equal values of the same kinds."""
+        self.assertEqual(result, wanted)
+        self.assertEqual(repr(result), repr(wanted))
+
+    def gives(self, wanted, function, *args):
+        """Fails unless the call gives this result, again after its result was changed, too."""
+        result = self.call(function, *args)
+        self.same(result, wanted)
+        if isinstance(result, list):
+            kept = copy.deepcopy(wanted)
+            for arg in args:
+                self.assertIsNot(result, arg)
+            result.append("changed")
+            result.reverse()
+            self.same(self.call(function, *args), kept)
+
+    def refuses(self, error, function, *args):
+        """Fails unless the call raises an error of exactly this class."""
+        with self.assertRaises(BacklinkError, msg=f"{function.__name__}{args!r:.300}") as caught:
+            self.call(function, *args)
+        self.assertIs(type(caught.exception), error, f"{function.__name__}{args!r:.300}")
+
+    def refuses_wrong_spans(self, function):
+        """Fails unless the function refuses wrong logs, then wrong starts, then wrong ends."""
+        for wrong in NOT_LOGS:
+            for start, end in [(0, 0), (1, 0), (0, 1), (None, None), (-1, "0"), (wrong, wrong)]:
+                self.refuses(InvalidLog, function, wrong, start, end)
+        for links in (EXAMPLE, ONE, FLAT):
+            size = len(links)
+            for start in NOT_INTEGERS + [-1, size, size + 1, GREAT, -GREAT]:
+                for end in (0, start, None, -1):
+                    self.refuses(InvalidEntry, function, links, start, end)
+            for start in (0, size - 1):
+                for end in NOT_INTEGERS + [-1, start + 1, size, GREAT, -GREAT]:
+                    self.refuses(InvalidEntry, function, links, start, end)
+        self.refuses(InvalidEntry, function, EXAMPLE, 3, 4)
+        self.refuses(InvalidEntry, function, EXAMPLE, 3, 6)
+        self.refuses(InvalidEntry, function, EXAMPLE, 3, True)
+
+    def refuses_wrong_entries(self, function):
+        """Fails unless the function with start, end and entry refuses wrong entries behind all else."""
+        for links in (EXAMPLE, ONE, FLAT):
+            size = len(links)
+            for entry in NOT_INTEGERS + [-1, -size, size, size + 1, GREAT, -GREAT]:
+                for start in (0, size - 1):
+                    self.refuses(InvalidEntry, function, links, start, 0, entry)
+        for wrong in NOT_LOGS:
+            self.refuses(InvalidLog, function, wrong, 0, 0, wrong)
+            self.refuses(InvalidLog, function, wrong, None, True, -1)

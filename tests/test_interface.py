@@ -1,0 +1,51 @@
+"""The names and arguments of the interface, and the files in which they stand."""
+
+import importlib
+import inspect
+import unittest
+
+INTERFACE = {
+    "backlinks.errors": {
+        "BacklinkError": None, "InvalidLog": None, "InvalidEntry": None, "InvalidTarget": None, "InvalidChain": None,
+        "InvalidNumber": None, "InvalidSize": None, "InvalidKnown": None, "InvalidPrices": None, "InvalidBase": None,
+        "InvalidTag": None, "InvalidText": None, "InvalidCommand": None, "Different": None, "NothingToUndo": None,
+        "Crossing": None, "InvalidChange": None,
+    },
+    "backlinks.links": {
+        "is_log": ["value"], "crossing_in": ["value"], "allowed_targets": ["links"],
+    },
+    "backlinks.chains": {
+        "is_chain": ["links", "value"],
+        "shortest_chain": ["links", "start", "end"],
+        "lies_on_every": ["links", "start", "end", "entry"],
+        "avoiding_chain": ["links", "start", "end", "entry"],
+        "count_chains": ["links", "start", "end"],
+        "nth_chain": ["links", "start", "end", "number"],
+        "chain_number": ["links", "chain"],
+        "walk_chains": ["links", "start", "end"],
+    },
+}
+
+
+class InterfaceTest(unittest.TestCase):
+    def test_each_name_is_defined_in_its_file(self):
+        for file, names in INTERFACE.items():
+            module = importlib.import_module(file)
+            for name in names:
+                with self.subTest(file=file, name=name):
+                    self.assertEqual(getattr(module, name).__module__, file)
+
+    def test_each_function_has_its_arguments(self):
+        for file, names in INTERFACE.items():
+            module = importlib.import_module(file)
+            for name, arguments in names.items():
+                with self.subTest(file=file, name=name):
+                    if arguments is None:
+                        self.assertTrue(inspect.isclass(getattr(module, name)))
+                    else:
+                        self.assertTrue(inspect.isfunction(getattr(module, name)))
+                        self.assertEqual(list(inspect.signature(getattr(module, name)).parameters), arguments)
+
+
+if __name__ == "__main__":
+    unittest.main()
