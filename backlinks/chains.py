@@ -1,7 +1,7 @@
 """Chains: the shortest ones, and all of them in their order."""
 
-from backlinks.checks import is_integer
-from backlinks.errors import InvalidChain, InvalidEntry, InvalidNumber
+from backlinks.checks import is_integer, require_number
+from backlinks.errors import InvalidChain, InvalidEntry
 from backlinks.links import require_log
 
 
@@ -43,8 +43,7 @@ def nth_chain(links, start, end, number):
     """Returns the chain with a number among those from start to end."""
     require_span(links, start, end)
     counts = _counts_to(links, start, end)
-    if not is_integer(number, 0, counts[start] - 1):
-        raise InvalidNumber("no chain has this number")
+    require_number(number, counts[start])
     chain = [start]
     left = number
     while chain[-1] > end:

@@ -1,7 +1,7 @@
 """Logs, crossing entries and allowed targets."""
 
 from backlinks.checks import is_integer
-from backlinks.errors import InvalidLog
+from backlinks.errors import InvalidLog, InvalidSize
 
 MOST_ENTRIES = 150
 
@@ -32,6 +32,12 @@ def require_log(value):
     """Raises InvalidLog if any value is not a log."""
     if not is_log(value):
         raise InvalidLog("this is not a log")
+
+
+def require_size(value):
+    """Raises InvalidSize if any value is not the size of a log."""
+    if not is_integer(value, 1, MOST_ENTRIES):
+        raise InvalidSize(f"this is not a size from 1 to {MOST_ENTRIES}")
 
 
 def _has_form(value):

@@ -6,7 +6,7 @@ import random
 import signal
 import unittest
 
-from backlinks.errors import BacklinkError, InvalidEntry, InvalidLog
+from backlinks.errors import BacklinkError, Crossing, InvalidEntry, InvalidKnown, InvalidLog, InvalidSize
 
 SECONDS = 30
 
@@ -41,6 +41,20 @@ NOT_CHAINS = NOT_LISTS + [
     [True], [False], [1, False], [True, 0], [2, True], [6, False], [None], ["5"], ["5", "2"], [5, "2"], [b"5"],
     [5, None], [(5, 2)], [[5, 2]], [5, [2]], [{}], [5, 2, 1, 0, 1], (5, 2), (5,), {5: 2}, "52", "5>2", b"\x05\x02",
     [5] * 400,
+]
+NOT_SIZES = NOT_INTEGERS + [0, -1, -2, -150, 151, 152, 400, GREAT, -GREAT]
+NOT_DICTS = [
+    None, True, False, 0, 1, 7, GREAT, "", "{}", "1", b"", b"\x01", (), (1, 0), ((1, 0),), [], [0], [1, 0], [(1, 0)],
+    [[1, 0]], [0, 0, 0], [0] * 7, [{1: 0}], ({1: 0},), NESTED,
+]
+# Dicts of which no size up to 7 has the form of known links, crossing links aside.
+NOT_KNOWN = NOT_DICTS + [
+    {0: 0}, {7: 0}, {7: 6}, {8: 0}, {150: 0}, {-1: 0}, {-1: -2}, {GREAT: 0}, {-GREAT: 0}, {True: 0}, {False: 0},
+    {2: 0, True: 0}, {None: 0}, {"": 0}, {"1": 0}, {"2": "0"}, {b"\x01": 0}, {(): 0}, {(1,): 0}, {(2, 1): 0},
+    {1: 1}, {2: 2}, {6: 6}, {2: 3}, {6: 7}, {1: -1}, {3: -1}, {1: False}, {2: False}, {2: True}, {3: None}, {3: ""},
+    {3: "0"}, {3: b"0"}, {3: ()}, {3: (0,)}, {3: []}, {3: [0]}, {3: {}}, {3: {0: 0}}, {3: NESTED}, {3: GREAT},
+    {3: -GREAT}, {1: 0, 2: 0, 3: 3}, {6: 5, 5: 5}, {5: 4, 6: True}, {4: 0, 0: 0}, {3: 1, 2: 0, 4: 4},
+    {3: 1, 2: 0, 7: 0}, {3: 1, 2: 0, True: 0}, {entry: 0 for entry in range(400)}, {entry: 0 for entry in range(7)},
 ]
 
 EXAMPLE = [0, 0, 0, 2, 3, 2, 0]
@@ -107,6 +121,38 @@ def small_spans():
                 yield links, start, end
 
 
+def catalan(number):
+    """Returns a Catalan number, by the sum of products that makes each of them from those before it."""
+    found = [1]
+    while len(found) <= number:
+        found.append(sum(one * other for one, other in zip(found, reversed(found))))
+    return found[number]
+
+
+def all_known(size):
+    """Yields all known links of a size, whether they cross or not, with keys in rising and in falling order."""
+    choices = [[None] + list(range(entry)) for entry in range(1, size)]
+    for falling in (False, True):
+        for links in itertools.product(*choices):
+            known = [(entry, link) for entry, link in enumerate(links, 1) if link is not None]
+            yield dict(reversed(known) if falling else known)
+
+
+def known_crossings(known):
+    """Returns all tuples of two entries whose known links cross, in ascending order."""
+    return [(i, j) for i in sorted(known) for j in sorted(known) if i < j and known[i] < known[j] < i]
+
+
+def has_links(links, known):
+    """Returns whether a log has the known links."""
+    return all(links[entry] == known[entry] for entry in known)
+
+
+def known_of(links, entries):
+    """Returns the links of some entries as known links."""
+    return {entry: links[entry] for entry in entries}
+
+
 def stop_waiting(number, frame):
     """Fails a test that goes on for ever, as where a program lists what must not be listed."""
     raise AssertionError(f"not done within {SECONDS} seconds")
@@ -138,12 +184,15 @@ class ExactCase(unittest.TestCase):
         """Fails unless the call gives this result, again after its result was changed, too."""
         result = self.call(function, *args)
         self.same(result, wanted)
-        if isinstance(result, list):
+        parts = result if isinstance(result, tuple) else [result]
+        lists = [part for part in parts if isinstance(part, list)]
+        if lists:
             kept = copy.deepcopy(wanted)
-            for arg in args:
-                self.assertIsNot(result, arg)
-            result.append("changed")
-            result.reverse()
+            for part in lists:
+                for arg in args:
+                    self.assertIsNot(part, arg)
+                part.append("changed")
+                part.reverse()
             self.same(self.call(function, *args), kept)
 
     def refuses(self, error, function, *args):
@@ -151,6 +200,34 @@ class ExactCase(unittest.TestCase):
         with self.assertRaises(BacklinkError, msg=f"{function.__name__}{args!r:.300}") as caught:
             self.call(function, *args)
         self.assertIs(type(caught.exception), error, f"{function.__name__}{args!r:.300}")
+
+    def crosses(self, pair, function, *args):
+        """Fails unless the call raises Crossing with this tuple of entries in its fields."""
+        with self.assertRaises(BacklinkError, msg=f"{function.__name__}{args!r:.300}") as caught:
+            self.call(function, *args)
+        self.assertIs(type(caught.exception), Crossing)
+        self.same((caught.exception.entry, caught.exception.other), pair)
+
+    def refuses_wrong_sizes(self, function, *rest):
+        """Fails unless the function with a size and such further arguments refuses wrong sizes."""
+        for wrong in NOT_SIZES:
+            self.refuses(InvalidSize, function, wrong, *rest)
+
+    def refuses_wrong_known(self, function, *rest):
+        """Fails unless the function with size, known links and such further arguments refuses wrong known links."""
+        for size in (1, 2, 7):
+            for wrong in NOT_KNOWN:
+                self.refuses(InvalidKnown, function, size, wrong, *rest)
+        for size in (1, 2, 3, 149, 150):
+            for wrong in ({size: 0}, {size: size - 1}, {size: 0, 1: 0}, {size - 1: size - 1}, {0: 0}, {True: 0}):
+                self.refuses(InvalidKnown, function, size, wrong, *rest)
+
+    def refuses_crossings(self, function, *rest):
+        """Fails unless the function with size, known links and such further arguments refuses links that cross."""
+        for size, known, pair in [(4, {3: 1, 2: 0}, (2, 3)), (4, {2: 0, 3: 1}, (2, 3)), (7, {6: 2, 5: 1}, (5, 6)),
+                                  (7, {6: 1, 5: 1, 3: 0, 2: 0}, (2, 5)), (150, {149: 1, 148: 0}, (148, 149)),
+                                  (150, {149: 1, 100: 98, 99: 0, 98: 0, 2: 0}, (2, 149))]:
+            self.crosses(pair, function, size, known, *rest)
 
     def refuses_wrong_spans(self, function):
         """Fails unless the function refuses wrong logs, then wrong starts, then wrong ends."""

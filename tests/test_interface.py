@@ -24,6 +24,23 @@ INTERFACE = {
         "chain_number": ["links", "chain"],
         "walk_chains": ["links", "start", "end"],
     },
+    "backlinks.meetings": {
+        "meeting_of": ["links", "*chains"],
+        "sure_meeting": ["links", "start", "end", "other_start", "other_end"],
+        "apart_chains": ["links", "start", "end", "other_start", "other_end"],
+    },
+    "backlinks.counting": {
+        "count_logs": ["size"], "nth_log": ["size", "number"], "log_number": ["links"],
+    },
+    "backlinks.known": {
+        "are_known": ["size", "value"],
+        "known_crossing": ["size", "known"],
+        "count_completions": ["size", "known"],
+        "nth_completion": ["size", "known", "number"],
+        "completion_number": ["links", "known"],
+        "sure_entries": ["size", "known", "start", "end"],
+        "skipping_log": ["size", "known", "start", "end", "entry"],
+    },
 }
 
 
@@ -44,7 +61,8 @@ class InterfaceTest(unittest.TestCase):
                         self.assertTrue(inspect.isclass(getattr(module, name)))
                     else:
                         self.assertTrue(inspect.isfunction(getattr(module, name)))
-                        self.assertEqual(list(inspect.signature(getattr(module, name)).parameters), arguments)
+                        parameters = inspect.signature(getattr(module, name)).parameters.values()
+                        self.assertEqual([str(parameter) for parameter in parameters], arguments)
 
 
 if __name__ == "__main__":
