@@ -1,7 +1,7 @@
 """Logs, crossing entries and allowed targets."""
 
 from backlinks.checks import is_integer
-from backlinks.errors import InvalidLog, InvalidSize
+from backlinks.errors import Different, InvalidLog, InvalidSize
 
 MOST_ENTRIES = 150
 
@@ -34,10 +34,30 @@ def require_log(value):
         raise InvalidLog("this is not a log")
 
 
+def require_one_size(logs):
+    """Raises an error if there is nothing, if one of any values is not a log, or if their sizes differ."""
+    if len(logs) == 0:
+        raise InvalidLog("there is no log")
+    for links in logs:
+        require_log(links)
+    for links in logs:
+        if len(links) != len(logs[0]):
+            raise Different("the logs do not have the same size")
+
+
 def require_size(value):
     """Raises InvalidSize if any value is not the size of a log."""
     if not is_integer(value, 1, MOST_ENTRIES):
         raise InvalidSize(f"this is not a size from 1 to {MOST_ENTRIES}")
+
+
+def crossed_by(links, entry, target):
+    """Returns the ascending list of the entries that an entry would cross if it had this target.
+
+    The list has the form of a log, and the entry may be the next one.
+    """
+    below = [other for other in range(target + 1, entry) if links[other] < target]
+    return below + [other for other in range(entry + 1, len(links)) if target < links[other] < entry]
 
 
 def _has_form(value):

@@ -4,9 +4,10 @@ import copy
 import itertools
 import random
 import signal
+import time
 import unittest
 
-from backlinks.errors import BacklinkError, Crossing, InvalidEntry, InvalidKnown, InvalidLog, InvalidSize
+from backlinks.errors import BacklinkError, Crossing, Different, InvalidEntry, InvalidKnown, InvalidLog, InvalidSize
 
 SECONDS = 30
 
@@ -57,6 +58,13 @@ NOT_KNOWN = NOT_DICTS + [
     {3: 1, 2: 0, 7: 0}, {3: 1, 2: 0, True: 0}, {entry: 0 for entry in range(400)}, {entry: 0 for entry in range(7)},
 ]
 
+# What is not prices.
+NOT_PRICES = NOT_LISTS + [
+    [], [-1], [10 ** 30 + 1], [GREAT], [-GREAT], [True], [False], [None], [""], ["0"], [b"\x00"], [()], [(0,)], [[]],
+    [[0]], [{}], NESTED, [0, -1], [0, True], [False, 0], [0, None, 0], [3, "3"], [[1, 2], [3]], [0, 0, 10 ** 30 + 1],
+    [0] * 61, [0] * 62, [0] * 150, [0] * 400, [0] * 59 + [True], [0] * 59 + [-1], [0] * 60 + [True],
+]
+
 EXAMPLE = [0, 0, 0, 2, 3, 2, 0]
 ONE = [0]
 FLAT = [0] * 150
@@ -95,6 +103,11 @@ def all_crossings(links):
 def all_logs(size):
     """Returns all logs of a size."""
     return [links for links in all_forms(size) if not all_crossings(links)]
+
+
+def is_above_plainly(links, other):
+    """Returns whether each link of the first log is greater than or equal to the other one's."""
+    return all(link >= below for link, below in zip(links, other))
 
 
 def all_chains(links, start, end):
@@ -207,6 +220,32 @@ class ExactCase(unittest.TestCase):
             self.call(function, *args)
         self.assertIs(type(caught.exception), Crossing)
         self.same((caught.exception.entry, caught.exception.other), pair)
+
+    def is_quick(self, seconds, function, *args):
+        """Fails unless the call takes at most this time when it is tried a few times."""
+        times = []
+        # What else the machine does makes a call slower and never quicker, so one quick call is enough.
+        while len(times) < 20 and min(times, default=seconds + 1) > seconds:
+            begun = time.perf_counter()
+            function(*args)
+            times.append(time.perf_counter() - begun)
+        self.assertLessEqual(min(times), seconds, f"{function.__name__}{args!r:.300}")
+
+    def refuses_wrong_logs(self, function, *rests):
+        """Fails unless the function with a log and such further arguments refuses wrong logs before all else."""
+        for wrong in NOT_LOGS:
+            for rest in rests:
+                self.refuses(InvalidLog, function, wrong, *rest)
+
+    def refuses_wrong_two(self, function, *rest):
+        """Fails unless the function refuses wrong logs in two places, then logs of different sizes."""
+        for wrong in NOT_LOGS:
+            for links in (EXAMPLE, ONE, FLAT, wrong, None):
+                self.refuses(InvalidLog, function, wrong, links, *rest)
+                self.refuses(InvalidLog, function, links, wrong, *rest)
+        for links, other in itertools.permutations([ONE, [0, 0], [0, 0, 0], [0, 0, 1], EXAMPLE, FLAT[:149], STEPS], 2):
+            if len(links) != len(other):
+                self.refuses(Different, function, links, other, *rest)
 
     def refuses_wrong_sizes(self, function, *rest):
         """Fails unless the function with a size and such further arguments refuses wrong sizes."""

@@ -41,6 +41,19 @@ INTERFACE = {
         "sure_entries": ["size", "known", "start", "end"],
         "skipping_log": ["size", "known", "start", "end", "entry"],
     },
+    "backlinks.changes": {
+        "after_changes": ["links", "*changes"],
+        "changes_between": ["links", "other"],
+        "is_direct": ["links", "other", "value"],
+        "orders_between": ["links", "other"],
+    },
+    "backlinks.combining": {
+        "is_above": ["links", "other"], "common_up": ["*logs"], "common_down": ["*logs"],
+    },
+    "backlinks.depths": {
+        "depths_of": ["links"], "least_depth": ["size"], "flattest_log": ["size"],
+        "cost_of": ["links", "prices"], "cheapest_cost": ["prices"], "cheapest_log": ["prices"],
+    },
 }
 
 
