@@ -8,7 +8,7 @@ from backlinks.links import require_log
 def is_chain(links, value):
     """Returns whether any value is a chain of the log."""
     require_log(links)
-    return _leads_down(links, value)
+    return leads_down(links, value)
 
 
 def shortest_chain(links, start, end):
@@ -60,7 +60,7 @@ def nth_chain(links, start, end, number):
 def chain_number(links, chain):
     """Returns the number of a chain among those with the same start and end."""
     require_log(links)
-    if not _leads_down(links, chain):
+    if not leads_down(links, chain):
         raise InvalidChain("this is not a chain of the log")
     counts = _counts_to(links, chain[0], chain[-1])
     number = 0
@@ -81,6 +81,19 @@ def walk_chains(links, start, end):
         chain = _chain_after(kept, chain)
 
 
+def leads_down(links, value):
+    """Returns whether any value is a chain of what is known to be a log."""
+    if not isinstance(value, list) or len(value) == 0:
+        return False
+    if not all([is_integer(entry, 0, len(links) - 1) for entry in value]):
+        return False
+    for entry, below in zip(value, value[1:]):
+        # Entry 0 has no link, though its item in the log is 0.
+        if entry == 0 or below not in (entry - 1, links[entry]):
+            return False
+    return True
+
+
 def require_entry(value, most):
     """Raises InvalidEntry if any value is not an integer from 0 to most."""
     if not is_integer(value, 0, most):
@@ -92,19 +105,6 @@ def require_span(links, start, end):
     require_log(links)
     require_entry(start, len(links) - 1)
     require_entry(end, start)
-
-
-def _leads_down(links, value):
-    """Returns whether any value is a chain of what is known to be a log."""
-    if not isinstance(value, list) or len(value) == 0:
-        return False
-    if not all([is_integer(entry, 0, len(links) - 1) for entry in value]):
-        return False
-    for entry, below in zip(value, value[1:]):
-        # Entry 0 has no link, though its item in the log is 0.
-        if entry == 0 or below not in (entry - 1, links[entry]):
-            return False
-    return True
 
 
 def _first_chain(links, start, end):
