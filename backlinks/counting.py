@@ -16,7 +16,7 @@ def count_logs(size):
 def nth_log(size, number):
     """Returns the log of a size with a number."""
     require_number(number, count_logs(size))
-    return links_with_number(Openings(size), number)
+    return links_with_number(Openings(size), size, number)
 
 
 def log_number(links):

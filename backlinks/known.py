@@ -4,7 +4,8 @@ from backlinks.chains import require_entry
 from backlinks.checks import is_integer, require_number
 from backlinks.errors import Crossing, Different, InvalidKnown
 from backlinks.links import crossing_in, require_log, require_size
-from backlinks.openings import KnownOpenings, count_parts, links_with_number, number_of_links
+from backlinks.openings import links_with_number, number_of_links
+from backlinks.parts import KnownOpenings, Parts
 
 
 def are_known(size, value):
@@ -23,15 +24,15 @@ def known_crossing(size, known):
 def count_completions(size, known):
     """Returns the number of completions."""
     _require_completable(size, known)
-    return count_parts(size, known)[0][size - 1]
+    return Parts(size, known).counts[size]
 
 
 def nth_completion(size, known, number):
     """Returns the completion with a number."""
     _require_completable(size, known)
     openings = KnownOpenings(size, known)
-    require_number(number, openings.parts[0][size - 1])
-    return links_with_number(openings, number)
+    require_number(number, openings.parts.counts[size])
+    return links_with_number(openings, size, number)
 
 
 def completion_number(links, known):
