@@ -1,6 +1,6 @@
 """Chains: the shortest ones, and all of them in their order."""
 
-from backlinks.checks import is_integer, require_number
+from backlinks.checks import are_integers, is_integer, require_number
 from backlinks.errors import InvalidChain, InvalidEntry
 from backlinks.links import require_log
 
@@ -14,14 +14,14 @@ def is_chain(links, value):
 def shortest_chain(links, start, end):
     """Returns the shortest chain from start to end."""
     require_span(links, start, end)
-    return _first_chain(links, start, end)
+    return first_chain(links, start, end)
 
 
 def lies_on_every(links, start, end, entry):
     """Returns whether every chain from start to end contains the entry."""
     require_span(links, start, end)
     require_entry(entry, len(links) - 1)
-    return entry in _first_chain(links, start, end)
+    return entry in first_chain(links, start, end)
 
 
 def avoiding_chain(links, start, end, entry):
@@ -29,7 +29,7 @@ def avoiding_chain(links, start, end, entry):
     require_span(links, start, end)
     require_entry(entry, len(links) - 1)
     # What the shortest chain contains no chain avoids, so no other one needs to be tried.
-    chain = _first_chain(links, start, end)
+    chain = first_chain(links, start, end)
     return None if entry in chain else chain
 
 
@@ -74,22 +74,31 @@ def walk_chains(links, start, end):
     """Yields all chains from start to end in ascending order, each found when it is asked for."""
     require_span(links, start, end)
     kept = list(links)
-    chain = _first_chain(kept, start, end)
+    chain = first_chain(kept, start, end)
     while chain is not None:
         # The caller may change what it gets, and the next chain is found from this one.
         yield list(chain)
         chain = _chain_after(kept, chain)
 
 
+def first_chain(links, start, end):
+    """Returns the first chain in ascending order, which is also the shortest one."""
+    chain = [start]
+    while chain[-1] > end:
+        entry = chain[-1]
+        chain.append(links[entry] if links[entry] >= end else entry - 1)
+    return chain
+
+
 def leads_down(links, value):
     """Returns whether any value is a chain of what is known to be a log."""
-    if not isinstance(value, list) or len(value) == 0:
+    if not isinstance(value, list) or len(value) == 0 or not are_integers(value):
         return False
-    if not all([is_integer(entry, 0, len(links) - 1) for entry in value]):
+    if not 0 <= value[0] < len(links):
         return False
     for entry, below in zip(value, value[1:]):
         # Entry 0 has no link, though its item in the log is 0.
-        if entry == 0 or below not in (entry - 1, links[entry]):
+        if entry == 0 or below != entry - 1 and below != links[entry]:
             return False
     return True
 
@@ -101,19 +110,15 @@ def require_entry(value, most):
 
 
 def require_span(links, start, end):
-    """Raises an error if links is not a log, or if start and end are not entries, the end not greater."""
+    """Raises an error if any values do not fit: a log, and two of its entries, the end not greater than the start."""
     require_log(links)
-    require_entry(start, len(links) - 1)
+    require_ends(start, end, len(links) - 1)
+
+
+def require_ends(start, end, most):
+    """Raises InvalidEntry if any values are not entries up to the greatest one, the end not greater than the start."""
+    require_entry(start, most)
     require_entry(end, start)
-
-
-def _first_chain(links, start, end):
-    """Returns the first chain in ascending order, which is also the shortest one."""
-    chain = [start]
-    while chain[-1] > end:
-        entry = chain[-1]
-        chain.append(links[entry] if links[entry] >= end else entry - 1)
-    return chain
 
 
 def _chain_after(links, chain):
@@ -121,7 +126,7 @@ def _chain_after(links, chain):
     for at in range(len(chain) - 2, -1, -1):
         step = chain[at] - 1
         if chain[at + 1] != step:
-            return chain[:at + 1] + _first_chain(links, step, chain[-1])
+            return chain[:at + 1] + first_chain(links, step, chain[-1])
     return None
 
 

@@ -1,6 +1,6 @@
 """Depths: how far the entries of a log are from its newest one, and the logs with the shortest chains."""
 
-from backlinks.checks import is_integer
+from backlinks.checks import are_integers
 from backlinks.errors import Different, InvalidPrices
 from backlinks.links import require_log, require_size
 
@@ -119,5 +119,5 @@ def _require_prices(value):
     """Raises InvalidPrices if any value is not prices."""
     if not isinstance(value, list) or not 1 <= len(value) <= MOST_PRICES:
         raise InvalidPrices(f"these are not 1 to {MOST_PRICES} prices")
-    if not all([is_integer(price, 0, MOST_PRICE) for price in value]):
+    if not are_integers(value) or min(value) < 0 or max(value) > MOST_PRICE:
         raise InvalidPrices("one of these is not a price")

@@ -1,6 +1,6 @@
 """Known links: their completions, and the entries that are sure for the chains of all of these."""
 
-from backlinks.chains import require_entry
+from backlinks.chains import require_ends, require_entry
 from backlinks.checks import is_integer, require_number
 from backlinks.errors import Crossing, Different, InvalidKnown
 from backlinks.links import crossing_in, require_log, require_size
@@ -47,13 +47,15 @@ def completion_number(links, known):
 def sure_entries(size, known, start, end):
     """Returns the ascending list of the entries that are sure for start and end."""
     _require_span(size, known, start, end)
-    passed = {}
-    for entry in range(end + 1, start + 1):
-        target = _lowest_target(known, entry, end)
-        if target is not None:
-            for between in range(target + 1, entry):
-                passed[between] = True
-    return [entry for entry in range(end, start + 1) if entry not in passed]
+    targets = _lowest_targets(size, known, start, end)
+    sure = []
+    lowest = start
+    for entry in range(start, end - 1, -1):
+        # A greater entry with a less target could pass over this one.
+        if entry <= lowest:
+            sure.append(entry)
+        lowest = min(lowest, targets.get(entry, lowest))
+    return sure[::-1]
 
 
 def skipping_log(size, known, start, end, entry):
@@ -63,10 +65,10 @@ def skipping_log(size, known, start, end, entry):
     links = _with_steps(size, known)
     if not end <= entry <= start:
         return links
+    targets = _lowest_targets(size, known, start, end)
     for above in range(entry + 1, start + 1):
-        target = _lowest_target(known, above, end)
-        if target is not None and target < entry:
-            links[above] = target
+        if targets.get(above, entry) < entry:
+            links[above] = targets[above]
             return links
     return None
 
@@ -96,8 +98,7 @@ def _require_completable(size, known):
 def _require_span(size, known, start, end):
     """Raises an error if any values do not fit: a size, known links, and a start and an end not greater."""
     _require_completable(size, known)
-    require_entry(start, size - 1)
-    require_entry(end, start)
+    require_ends(start, end, size - 1)
 
 
 def _with_steps(size, known):
@@ -111,19 +112,30 @@ def _least_crossing(size, known):
     return crossing_in(_with_steps(size, known))
 
 
-def _lowest_target(known, entry, end):
-    """Returns the least target from the end on that the entry has or may get beside the known links, or None."""
-    for target in range(end, entry):
-        if _may_link(known, entry, target):
-            return target
-    return None
+def _lowest_targets(size, known, start, end):
+    """Returns a dict from the entries behind the end, up to start, to the least target from the end on of each.
+
+    It is the target that the entry has, or the least one that it may get beside the known links. An entry that is known
+    to link below the end is left out.
+    """
+    bases = _bases(size, known)
+    targets = {}
+    least = end
+    for entry in range(end + 1, start + 1):
+        if entry not in known:
+            targets[entry] = max(least, bases[entry])
+        elif known[entry] >= end:
+            targets[entry] = known[entry]
+        else:
+            # It passes over the end, and over all else before it that is not below its target.
+            least = entry
+    return targets
 
 
-def _may_link(known, entry, target):
-    """Returns whether the known links with this one are known links without a crossing."""
-    if known.get(entry, target) != target:
-        return False
-    for other in known:
-        if known[other] < target < other < entry or target < known[other] < entry < other:
-            return False
-    return True
+def _bases(size, known):
+    """Returns for each entry the target of the least known entry that passes over it, or 0."""
+    bases = [0] * size
+    for above in sorted(known, reverse=True):
+        base = known[above]
+        bases[base + 1:above] = [base] * (above - base - 1)
+    return bases

@@ -1,6 +1,6 @@
 """Logs, crossing entries and allowed targets."""
 
-from backlinks.checks import is_integer
+from backlinks.checks import are_integers, is_integer
 from backlinks.errors import Different, InvalidLog, InvalidSize
 
 MOST_ENTRIES = 150
@@ -8,24 +8,28 @@ MOST_ENTRIES = 150
 
 def is_log(value):
     """Returns whether any value is a log."""
-    return _has_form(value) and _targets_after(value) is not None
+    # The last check finds links that are too great, too.
+    return _are_links(value) and min(value) == 0 and _cross_nowhere(value)
 
 
 def crossing_in(value):
     """Returns the least tuple of two entries that cross, or None."""
     if not _has_form(value):
         raise InvalidLog("this is not a list of links to earlier entries")
-    for entry in range(1, len(value)):
-        for other in range(entry + 1, len(value)):
-            if value[entry] < value[other] < entry:
-                return (entry, other)
-    return None
+    if _cross_nowhere(value):
+        return None
+    return min([(entry, other) for entry in range(1, len(value)) for other in range(entry + 1, len(value))
+                if value[entry] < value[other] < entry])
 
 
 def allowed_targets(links):
     """Returns the ascending list of the targets that a further entry may have."""
     require_log(links)
-    return _targets_after(links)
+    # What no link passes over is what the links from the newest entry down lead to.
+    targets = [len(links) - 1]
+    while targets[-1] > 0:
+        targets.append(links[targets[-1]])
+    return targets[::-1]
 
 
 def require_log(value):
@@ -60,25 +64,28 @@ def crossed_by(links, entry, target):
     return below + [other for other in range(entry + 1, len(links)) if target < links[other] < entry]
 
 
-def _has_form(value):
-    """Returns whether any value is a list with the form of a log, whether links cross or not."""
+def _are_links(value):
+    """Returns whether any value is a list of integers, as many as a log may have, and the first one 0."""
     if not isinstance(value, list) or not 1 <= len(value) <= MOST_ENTRIES:
         return False
-    # Entry 0 has no link, but its item is 0 as if it had one.
-    return all([is_integer(link, 0, max(0, entry - 1)) for entry, link in enumerate(value)])
+    return are_integers(value) and value[0] == 0
 
 
-def _targets_after(links):
-    """Returns the ascending targets that a further entry may have, or None if two entries cross.
+def _has_form(value):
+    """Returns whether any value is a list with the form of a log, whether links cross or not."""
+    return _are_links(value) and all([0 <= link < entry for entry, link in enumerate(value[1:], 1)])
 
-    The list has the form of a log.
+
+def _cross_nowhere(links):
+    """Returns whether each link leads to an earlier entry that no link before it passes over.
+
+    No link is less than 0.
     """
-    targets = [0]
-    for entry in range(1, len(links)):
-        # The link closes the entries that it passes over: a later link to one of them would cross it.
-        while targets[-1] > links[entry]:
-            targets.pop()
-        if targets[-1] != links[entry]:
-            return None
-        targets.append(entry)
-    return targets
+    # The links from the entry just before down lead to exactly these entries. What a search leaves behind is never come
+    # by again, for the link that is found passes over it.
+    for target, link in enumerate(links[1:]):
+        while target > link:
+            target = links[target]
+        if target != link:
+            return False
+    return True

@@ -1,6 +1,6 @@
 """Ruler logs: regular logs of which great entries are asked for, by their digits."""
 
-from backlinks.chains import require_entry
+from backlinks.chains import require_ends
 from backlinks.checks import is_integer
 from backlinks.errors import InvalidBase, InvalidEntry
 
@@ -19,7 +19,7 @@ def ruler_link(base, entry):
 def ruler_walk(base, start, end):
     """Yields the entries of the shortest chain from start to end, one after another."""
     _require_base(base)
-    _require_ruler_span(start, end)
+    require_ends(start, end, MOST_RULER_ENTRY)
     entry = start
     power = 1
     yield entry
@@ -37,7 +37,7 @@ def ruler_walk(base, start, end):
 def ruler_length(base, start, end):
     """Returns the number of steps and links of the shortest chain from start to end."""
     _require_base(base)
-    _require_ruler_span(start, end)
+    require_ends(start, end, MOST_RULER_ENTRY)
     length = 0
     entry = start
     power = 1
@@ -53,8 +53,8 @@ def ruler_length(base, start, end):
 def ruler_meeting(base, start, end, other_start, other_end):
     """Returns the greatest entry that every chain of both parts contains, or None."""
     _require_base(base)
-    _require_ruler_span(start, end)
-    _require_ruler_span(other_start, other_end)
+    require_ends(start, end, MOST_RULER_ENTRY)
+    require_ends(other_start, other_end, MOST_RULER_ENTRY)
     if start > other_start:
         return _meeting_below(base, other_start, other_end, start, end)
     return _meeting_below(base, start, end, other_start, other_end)
@@ -105,9 +105,3 @@ def _require_base(value):
     """Raises InvalidBase if any value is not a base."""
     if not is_integer(value, 2, MOST_BASE):
         raise InvalidBase(f"this is not a base from 2 to {MOST_BASE}")
-
-
-def _require_ruler_span(start, end):
-    """Raises InvalidEntry if any values are not entries, the end not greater than the start."""
-    require_entry(start, MOST_RULER_ENTRY)
-    require_entry(end, start)

@@ -3,7 +3,9 @@
 import unittest
 
 from backlinks.counting import count_logs, log_number, nth_log
-from backlinks.known import completion_number, count_completions, nth_completion
+from backlinks.known import completion_number, count_completions, nth_completion, skipping_log, sure_entries
+from backlinks.links import is_log
+from backlinks.meetings import apart_chains, meeting_of, sure_meeting
 from tests.plain import FLAT, LONG, PAIRS, STEPS, ExactCase, known_of
 
 MILLISECOND = 0.001
@@ -60,6 +62,39 @@ class CountingSpeedTest(ExactCase):
 
     def test_count_logs(self):
         self.is_quick(0.1 * MILLISECOND, count_logs, 150)
+
+class SureSpeedTest(ExactCase):
+    def test_sure_entries_and_skipping_log(self):
+        for known in KNOWN:
+            for start, end in [(149, 0), (149, 75), (140, 9)]:
+                self.is_quick(5 * MILLISECOND, sure_entries, 150, known, start, end)
+                self.is_quick(5 * MILLISECOND, skipping_log, 150, known, start, end, 76)
+
+
+class MeetingSpeedTest(ExactCase):
+    """Five times a third of what these calls took when each chain and each span had the log checked again."""
+
+    def test_meeting_of(self):
+        self.is_quick(0.2 * MILLISECOND, meeting_of, STEPS, [149, 148, 147], [148, 147])
+        down = list(range(149, -1, -1))
+        for links in LONG:
+            self.is_quick(1.8 * MILLISECOND, meeting_of, links, *[down] * 5)
+            self.is_quick(1.8 * MILLISECOND, meeting_of, links, *[down[at:150 - at] for at in (0, 20, 40, 60, 74)])
+
+    def test_sure_meeting(self):
+        for links in LONG:
+            for spans in [(149, 0, 148, 1), (148, 1, 149, 0), (149, 0, 149, 0), (149, 100, 99, 0), (149, 148, 1, 0)]:
+                self.is_quick(0.5 * MILLISECOND, sure_meeting, links, *spans)
+
+    def test_apart_chains(self):
+        self.is_quick(0.16 * MILLISECOND, apart_chains, FLAT, 149, 0, 149, 0)
+        for links in LONG:
+            for spans in [(149, 0, 148, 1), (149, 75, 74, 0), (74, 0, 149, 75)]:
+                self.is_quick(0.5 * MILLISECOND, apart_chains, links, *spans)
+
+    def test_is_log(self):
+        for links in LONG:
+            self.is_quick(0.08 * MILLISECOND, is_log, links)
 
 
 if __name__ == "__main__":
