@@ -98,7 +98,7 @@ def leads_down(links, value):
         return False
     for entry, below in zip(value, value[1:]):
         # Entry 0 has no link, though its item in the log is 0.
-        if entry == 0 or below != entry - 1 and below != links[entry]:
+        if entry == 0 or (below != entry - 1 and below != links[entry]):
             return False
     return True
 

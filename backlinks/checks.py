@@ -16,6 +16,6 @@ def require_number(value, many):
 
 def are_integers(values):
     """Returns whether all of any values are integers."""
-    # The class tells it of nearly all, and is quickly asked; what is left may still be of a class below int.
-    others = [value for value in values if type(value) is not int]
-    return all([isinstance(value, int) and not isinstance(value, bool) for value in others])
+    # True and False are all that is an int and a bool, and it takes less time to look for them by name.
+    others = [value for value in values if not isinstance(value, int) or value is True or value is False]
+    return len(others) == 0
